@@ -1,0 +1,41 @@
+"""How far it is from place to place, and by which path."""
+
+from openhouses.maps import neighbours
+
+
+def far(web, one, other):
+    """The least sum of lengths of ways that lead from the one place to the other."""
+    return fars(web, one)[other]
+
+
+def fars(web, place):
+    """A dict from all places to how far they are from this one."""
+    beside = neighbours(web)
+    reached = {place: 0}
+    settled = {}
+    while reached:
+        so_far, here = min([(reached[name], name) for name in reached])
+        # All lengths are above 0, so nothing reached later can come nearer than the nearest.
+        del reached[here]
+        settled[here] = so_far
+        for name in beside[here]:
+            if name not in settled:
+                by_here = so_far + beside[here][name]
+                reached[name] = min(by_here, reached.get(name, by_here))
+    return {name: settled[name] for name in web[0]}
+
+
+def path(web, one, other):
+    """The first, as lists compare, of the paths of least sum from the one place to the other."""
+    beside = neighbours(web)
+    left = fars(web, other)
+    places = [one]
+    # No such path is the beginning of another one, so the least next place each time makes the first path.
+    while places[-1] != other:
+        places.append(next_place(beside, left, places[-1]))
+    return places
+
+
+def next_place(beside, left, here):
+    """The first neighbour by name over which it is no farther than is left from here."""
+    return min([name for name in beside[here] if beside[here][name] + left[name] == left[here]])
