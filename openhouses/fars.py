@@ -10,19 +10,25 @@ def far(web, one, other):
 
 def fars(web, place):
     """A dict from all places to how far they are from this one."""
+    told = nearest(web, [place])
+    return {name: told[name][0] for name in web[0]}
+
+
+def nearest(web, starts):
+    """A dict from all places to tuples (far, start): the start that is nearest, of several the first by name."""
     beside = neighbours(web)
-    reached = {place: 0}
+    reached = {start: (0, start) for start in starts}
     settled = {}
     while reached:
-        so_far, here = min([(reached[name], name) for name in reached])
+        (so_far, start), here = min([(reached[name], name) for name in reached])
         # All lengths are above 0, so nothing reached later can come nearer than the nearest.
         del reached[here]
-        settled[here] = so_far
+        settled[here] = (so_far, start)
         for name in beside[here]:
             if name not in settled:
-                by_here = so_far + beside[here][name]
+                by_here = (so_far + beside[here][name], start)
                 reached[name] = min(by_here, reached.get(name, by_here))
-    return {name: settled[name] for name in web[0]}
+    return settled
 
 
 def path(web, one, other):

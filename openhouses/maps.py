@@ -2,7 +2,7 @@
 
 from openhouses.errors import NoMap
 from openhouses.names import is_name
-from openhouses.wholes import is_whole
+from openhouses.wholes import is_whole_from
 
 MOST_PLACES = 30
 
@@ -51,7 +51,7 @@ def way_of(way, places):
         raise NoMap("a way leads to what is no place of the map")
     if one == other:
         raise NoMap("a way leads from a place to itself")
-    if not is_whole(length) or length < 1:
+    if not is_whole_from(length, 1):
         raise NoMap("a length is no whole number from 1 on")
     return (min(one, other), max(one, other), length)
 
@@ -68,14 +68,22 @@ def neighbours(web):
 
 def is_joined(web):
     """True where ways lead from each place to each other one, else False."""
+    return len(came_from(web)) == len(web[0])
+
+
+def came_from(web):
+    """A dict from each place that is reached from the first one to the place it is reached from, None of the first.
+
+    Each place stands in it behind the one it is reached from.
+    """
     beside = neighbours(web)
     first = web[0][0]
-    reached = {first: True}
+    behind = {first: None}
     ahead = [first]
     while ahead:
         here = ahead.pop()
         for place in beside[here]:
-            if place not in reached:
-                reached[place] = True
+            if place not in behind:
+                behind[place] = here
                 ahead.append(place)
-    return len(reached) == len(beside)
+    return behind

@@ -7,17 +7,9 @@ import unittest
 
 from openhouses.fars import far, fars, path
 from openhouses.maps import map_of
-from things import all_ways, line_ways, small_names, within
+from things import all_ways, chance_map, lengths_of, line_ways, small_names, table_of_fars, within
 
 GREAT = 10 ** 30 - 1
-
-
-def lengths_of(web):
-    """The length of each way, by its places either way about."""
-    lengths = {}
-    for one, other, length in web[1]:
-        lengths[one, other] = lengths[other, one] = length
-    return lengths
 
 
 def tried_paths(web, one, other):
@@ -35,17 +27,6 @@ def tried_paths(web, one, other):
     return done
 
 
-def table_of_fars(web):
-    """How far it is between each two, by letting each place in turn stand between."""
-    table = {(one, other): 0 for one, other in zip(web[0], web[0])}
-    table.update(lengths_of(web))
-    for middle, one, other in itertools.product(web[0], repeat=3):
-        if (one, middle) in table and (middle, other) in table:
-            by_middle = table[one, middle] + table[middle, other]
-            table[one, other] = min(by_middle, table.get((one, other), by_middle))
-    return table
-
-
 def first_paths(web, other):
     """The first path from each place to the other, reckoned from the near places to the distant ones."""
     table, lengths = table_of_fars(web), lengths_of(web)
@@ -57,15 +38,6 @@ def first_paths(web, other):
                 if (place, step) in lengths and lengths[place, step] + table[step, other] == table[place, other]
             ])
     return told
-
-
-def chance_map(chance, many, most):
-    """A map with so many places, a chance tree with some more ways, lengths from 1 to most."""
-    names = chance.sample(small_names(30), many)
-    pairs = {tuple(sorted((names[at], chance.choice(names[:at])))) for at in range(1, many)}
-    spare = [pair for pair in itertools.combinations(sorted(names), 2) if pair not in pairs]
-    pairs |= set(chance.sample(spare, chance.randint(0, len(spare))))
-    return map_of(names, [(one, other, chance.randint(1, most)) for one, other in sorted(pairs)])
 
 
 def grid_map(names, wide):

@@ -5,6 +5,9 @@ import itertools
 import reprlib
 import signal
 
+from openhouses.cases import case_of
+from openhouses.maps import map_of
+
 
 class Plain:
     """An object of no kind that the program knows."""
@@ -81,6 +84,53 @@ def line_ways(names, length):
 def all_ways(names, length):
     """A way of this length between each two of the names."""
     return [(one, other, length) for one, other in itertools.combinations(names, 2)]
+
+
+def lengths_of(web):
+    """The length of each way, by its places either way about."""
+    lengths = {}
+    for one, other, length in web[1]:
+        lengths[one, other] = lengths[other, one] = length
+    return lengths
+
+
+def table_of_fars(web):
+    """How far it is between each two, by letting each place in turn stand between."""
+    table = {(one, other): 0 for one, other in zip(web[0], web[0])}
+    table.update(lengths_of(web))
+    for middle, one, other in itertools.product(web[0], repeat=3):
+        if (one, middle) in table and (middle, other) in table:
+            by_middle = table[one, middle] + table[middle, other]
+            table[one, other] = min(by_middle, table.get((one, other), by_middle))
+    return table
+
+
+def chance_tree(chance, many, most):
+    """A tree with so many places, lengths from 1 to most; its root may stand anywhere in it."""
+    names = chance.sample(small_names(30), many)
+    ways = [(names[at], chance.choice(names[:at]), chance.randint(1, most)) for at in range(1, many)]
+    return map_of(names, ways)
+
+
+def chance_map(chance, many, most):
+    """A map with so many places, a chance tree with some more ways, lengths from 1 to most."""
+    places, ways = chance_tree(chance, many, most)
+    joined = [(one, other) for one, other, length in ways]
+    spare = [pair for pair in itertools.combinations(places, 2) if pair not in joined]
+    more = chance.sample(spare, chance.randint(0, len(spare)))
+    return map_of(places, list(ways) + [(one, other, chance.randint(1, most)) for one, other in more])
+
+
+def chance_case(chance, web, most):
+    """A case on the map with chance sites, folk and limit, numbers up to most."""
+    sites = chance.sample(web[0], chance.randint(1, min(10, len(web[0]))))
+    folk = chance.sample(web[0], chance.randint(1, len(web[0])))
+    return case_of(
+        web,
+        [(place, chance.randint(0, most)) for place in sites],
+        [(place, chance.randint(1, most)) for place in folk],
+        chance.choice((None, 1, 2, 3, len(sites), 11)),
+    )
 
 
 @contextlib.contextmanager
