@@ -14,6 +14,11 @@ def fars(web, place):
     return {name: told[name][0] for name in web[0]}
 
 
+def site_fars(case):
+    """A dict from the places of the case's sites to how far all places are from each of them."""
+    return {place: fars(case[0], place) for place, price in case[1]}
+
+
 def nearest(web, starts):
     """A dict from all places to tuples (far, start): the start that is nearest, of several the first by name."""
     beside = neighbours(web)

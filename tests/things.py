@@ -146,3 +146,24 @@ def within(seconds):
     finally:
         signal.alarm(0)
         signal.signal(signal.SIGALRM, before)
+
+
+def broken_rows(rows, others):
+    """The tuple of rows (place, something), with one thing broken each time; others are names that don't stand there."""
+    broken = [list(rows), (), None, True, dict(rows), rows[0], (rows,), [rows], rows + rows, "rows", rows + (None,)]
+    for at, row in enumerate(rows):
+        ahead, behind = rows[:at], rows[at + 1:]
+        place, thing = row
+        wrong = [
+            list(row), (place,), (place, thing, thing), (place, thing, None), (thing, place), (thing,), (), (row,),
+            (place, (thing,)), (place, [thing]), ((place,), thing), ([place], thing), place, thing, None, True, {place: thing},
+        ]
+        wrong += [(other, thing) for other in list(others) + ["", place + "z", place.upper(), None, 0, True]]
+        broken += [ahead + (instead,) + behind for instead in wrong]
+        broken += [ahead + behind, ahead + (row, row) + behind, ahead + behind + (row, row), (row,) + ahead + (row,) + behind]
+        broken += [ahead + (row, (other, thing)) + behind for other in others]
+        if behind:
+            broken += [ahead + (behind[0], row) + behind[1:], behind + ahead + (row,)]
+    if len(rows) > 1:
+        broken += [rows[::-1], rows[1:], rows[:-1]]
+    return [thing for thing in broken if not (type(thing) is tuple and thing == rows)]
