@@ -27,5 +27,5 @@ def steps(case, aways, chosen):
             reached = [site for site in chosen if aways[site][place] <= ring]
             rise = None if beyond is None else many * (beyond - ring)
             found.append((ring - depths[place], place, reached, rise))
-    in_order = sorted(found, key=lambda step: (step[0], step[1]))
+    in_order = sorted(found, key=lambda step: step[0])
     return [(place, reached, rise) for height, place, reached, rise in in_order]

@@ -116,3 +116,130 @@ def even_case(chance, web, most, limits):
     dearest = max(ways // chance.choice((1, 2, 4, 8, 16)), 1)
     charges = [(place, chance.choice((0, chance.randint(0, dearest), chance.randint(0, dearest)))) for place in sites]
     return case_of(web, charges, folk, chance.choice(limits))
+
+
+def reckoned_leaves(tree, opened=(), shut=()):
+    """All leaves of a tree of the right form, each with the sites that are open and shut on the way to it."""
+    if tree[0] == "leaf":
+        return [(tree, opened, shut)]
+    word, site, first, second = tree
+    return (reckoned_leaves(first, opened + (site,), shut) + reckoned_leaves(second, opened, shut + (site,)))
+
+
+def reckoned_leaf_low(case, table, leaf, opened, shut):
+    """The low of a leaf with right prices and a right levy; None where some free site gets too much."""
+    word, prices, levy = leaf
+    for site, charge in case[1]:
+        if site not in opened + shut and reckoned_gets(case, table, prices, site) > charge + levy:
+            return None
+    charges = dict(case[1])
+    more = [charges[site] + levy - reckoned_gets(case, table, prices, site) for site in opened]
+    return reckoned_low(case, prices, levy) + sum(more)
+
+
+def reckoned_tree_low(case, table, tree):
+    """The greatest number for which the tree holds, None where it holds for none; of right prices and levies."""
+    lows = []
+    for leaf, opened, shut in reckoned_leaves(tree):
+        over = case[3] is not None and len(opened) > case[3]
+        if not over and len(shut) < len(case[1]):
+            lows.append(reckoned_leaf_low(case, table, leaf, opened, shut))
+    return None if None in lows else min(lows)
+
+
+def reckoned_parents(web):
+    """A dict from each place of a tree to its parent, None of the root, by how far all are from each other."""
+    table, root = table_of_fars(web), web[0][0]
+    parents = {root: None}
+    for one, other, length in web[1]:
+        lower, upper = (one, other) if table[root, one] > table[root, other] else (other, one)
+        parents[lower] = upper
+    return parents
+
+
+def reckoned_below(parents, place):
+    """All places on whose path to the root this one stands."""
+    found = []
+    for name in parents:
+        here = name
+        while here is not None and here != place:
+            here = parents[here]
+        if here == place:
+            found.append(name)
+    return found
+
+
+def at_least(numbers):
+    """The least of the numbers, None being greater than each."""
+    told = [number for number in numbers if number is not None]
+    return min(told) if told else None
+
+
+def together(numbers):
+    """The sum of the numbers, None with None."""
+    return None if None in numbers else sum(numbers)
+
+
+class Reckoned:
+    """The numbers that are due of a case on a tree, just as [15] tells them, all tuples of n tried."""
+
+    def __init__(self, case):
+        self.case = case
+        self.table = table_of_fars(case[0])
+        self.parents = reckoned_parents(case[0])
+        self.below = {place: reckoned_below(self.parents, place) for place in self.parents}
+        self.mores = len(case[1]) if case[3] is None else min(case[3], len(case[1]))
+
+    def children(self, place):
+        return [name for name in self.parents if self.parents[name] == place]
+
+    def begun(self, numbers, place, many):
+        if many == 0:
+            return None
+        return at_least([
+            together([charge, numbers[place, site, many - 1]]) for site, charge in self.case[1]
+            if site in self.below[place]])
+
+    def handed(self, numbers, child, site, many):
+        number = numbers[child, site, many]
+        if site in self.below[child]:
+            return number
+        return at_least([number, self.begun(numbers, child, many)])
+
+    def due(self, numbers, place, site, more):
+        own = dict(self.case[2]).get(place, 0) * self.table[place, site]
+        children = self.children(place)
+        sums = [
+            together([self.handed(numbers, child, site, many) for child, many in zip(children, manys)])
+            for manys in itertools.product(range(more + 1), repeat=len(children)) if sum(manys) == more]
+        return together([own, at_least(sums)])
+
+    def rows(self):
+        """The first parts of all rows, sorted."""
+        return sorted(itertools.product(self.case[0][0], site_places(self.case), range(self.mores)))
+
+    def upwards(self):
+        """The places, each behind all of its children."""
+        return sorted(self.case[0][0], key=lambda place: len(self.below[place]))
+
+    def lowered(self, numbers):
+        """The numbers, from below upwards none greater than what is due then; those that are not there are due."""
+        told = {}
+        for place in self.upwards():
+            for first in [first for first in self.rows() if first[0] == place]:
+                due = self.due(told, *first)
+                told[first] = at_least([numbers[first], due]) if first in numbers else due
+        return told
+
+    def hold(self, numbers):
+        """Whether no number is greater than the one that is due."""
+        return all([at_least([numbers[first], self.due(numbers, *first)]) == numbers[first] for first in self.rows()])
+
+    def low(self, numbers):
+        root = self.case[0][0][0]
+        return at_least([self.begun(numbers, root, many) for many in range(1, self.mores + 1)])
+
+
+def rows_from(numbers):
+    """The table of these numbers."""
+    return [(first, numbers[first]) for first in sorted(numbers)]

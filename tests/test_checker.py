@@ -175,8 +175,10 @@ class NotLetBy(Told):
     def test_the_levy(self):
         things = [thing for thing in odd_things() if type(thing) is not int]
         wrong = things + [-1, -HUGE, True, False, "0", "", None, [0], (0,), {}]
+        nought = (("a", 0), ("c", 0), ("d", 0))
         for limit in (None, 2):
             self.one_part_refused(case_with(limit), self.paper, 3, wrong)
+            self.one_part_refused(case_with(limit), (("b", "e"), WAYS, nought, 0), 3, wrong)
 
     def test_a_paper_that_is_a_list_or_of_another_length(self):
         opening, ways, prices, levy = self.paper

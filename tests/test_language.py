@@ -20,6 +20,8 @@ BUILTINS = (
     "ord repr any all divmod Exception ValueError TypeError KeyError IndexError LookupError ZeroDivisionError "
     "ArithmeticError OverflowError RuntimeError NotImplementedError AttributeError StopIteration"
 ).split()
+NEVER = "register mro elements open input version_info with_traceback add_note format format_map".split()
+AT_ONCE = "zip enumerate reversed range items keys values".split()
 METHODS = ["__init__", "__eq__", "__repr__", "__str__", "__len__"]
 BARRED = (
     ast.With, ast.AsyncWith, ast.Match, ast.Global, ast.Nonlocal, ast.Yield, ast.YieldFrom, ast.AsyncFunctionDef,
@@ -138,6 +140,27 @@ class Language(unittest.TestCase):
                        if isinstance(part, ast.FunctionDef)]
             for word in tops:
                 self.assertEqual(bound_names(tree).count(word) - methods.count(word), 1, (name, word))
+
+    def test_barred_names(self):
+        for name, tree in trees():
+            for word in bound_names(tree) + [node.attr for node in ast.walk(tree) if isinstance(node, ast.Attribute)]:
+                self.assertNotIn(word, NEVER, name)
+
+    def test_what_is_iterated_at_once_is_not_stored(self):
+        for where, node in nodes():
+            value = node.value if isinstance(node, (ast.Assign, ast.Return)) else None
+            if isinstance(value, ast.Call):
+                called = value.func.id if isinstance(value.func, ast.Name) else value.func.attr
+                self.assertNotIn(called, AT_ONCE, where)
+
+    def test_no_name_is_a_method_here_and_an_attribute_there(self):
+        methods, attributes = [], []
+        for where, node in nodes():
+            if isinstance(node, ast.ClassDef):
+                methods += [part.name for part in node.body if isinstance(part, ast.FunctionDef)]
+            if isinstance(node, ast.Attribute) and isinstance(node.ctx, ast.Store):
+                attributes.append(node.attr)
+        self.assertEqual([word for word in attributes if word in methods], [])
 
     def test_imports_name_the_file_that_defines(self):
         defined = {

@@ -24,6 +24,7 @@ FREE = case_of(WEB, SITES, FOLK, None)
 LIMITED = case_of(WEB, SITES, FOLK, 1)
 # To b it costs 6 from a, 15 from c, 14 from d; to e it costs 42, 45, 10.
 EDGE = (("a", 9), ("c", 20), ("d", 16))
+NOUGHT = (("a", 0), ("c", 0), ("d", 0))
 
 
 class Gets(unittest.TestCase):
@@ -87,7 +88,7 @@ class Low(unittest.TestCase):
 
     def test_without_a_limit(self):
         self.told(FREE, EDGE, 0, 45)
-        self.told(FREE, (("a", 0), ("c", 0), ("d", 0)), 0, 0)
+        self.told(FREE, NOUGHT, 0, 0)
 
     def test_with_a_limit(self):
         for limit in (1, 2, 3, 11, GREAT):
@@ -97,7 +98,7 @@ class Low(unittest.TestCase):
 
     def test_below_nought(self):
         self.told(LIMITED, EDGE, 46, -1)
-        self.told(LIMITED, (("a", 0), ("c", 0), ("d", 0)), 5, -5)
+        self.told(LIMITED, NOUGHT, 5, -5)
         self.told(case_of(WEB, SITES, FOLK, 3), EDGE, 100, -255)
 
     def test_of_prices_that_do_not_stand_too(self):
@@ -140,10 +141,9 @@ class Stand(unittest.TestCase):
         self.told(case, (("a", 6), ("c", 0), ("d", 0)), 0, False)
 
     def test_all_prices_nought(self):
-        nought = (("a", 0), ("c", 0), ("d", 0))
-        self.told(FREE, nought, 0, True)
+        self.told(FREE, NOUGHT, 0, True)
         for levy in (0, 1, GREAT, HUGE):
-            self.told(LIMITED, nought, levy, True)
+            self.told(LIMITED, NOUGHT, levy, True)
 
     def test_numbers_of_a_hundred_figures(self):
         web = map_of(["a", "b"], [("a", "b", GREAT)])
@@ -161,17 +161,18 @@ class Stand(unittest.TestCase):
     def test_a_levy_without_a_limit(self):
         for levy in (1, 2, GREAT, HUGE):
             self.told(FREE, EDGE, levy, False)
-            self.told(FREE, (("a", 0), ("c", 0), ("d", 0)), levy, False)
+            self.told(FREE, NOUGHT, levy, False)
 
     def test_a_levy_that_is_none(self):
         things = [thing for thing in odd_things() if type(thing) is not int]
         for thing in things + [-1, -2, -GREAT, -HUGE, True, False, "", "0", "1", None, [0], (0,), {0: 0}, [[]], b"0"]:
             for case in (FREE, LIMITED, case_of(WEB, SITES, FOLK, GREAT)):
                 self.told(case, EDGE, thing, False)
+                self.told(case, NOUGHT, thing, False)
 
     def test_prices_with_one_thing_broken(self):
         for case in (FREE, LIMITED):
-            for prices in (EDGE, (("a", 0), ("c", 0), ("d", 0)), (("a", 1), ("c", 1), ("d", 1))):
+            for prices in (EDGE, NOUGHT, (("a", 1), ("c", 1), ("d", 1))):
                 for thing in broken_rows(prices, ["a", "b", "c", "d", "e", "q"]):
                     if thing != prices:
                         self.told(case, thing, 0, False)
