@@ -1,17 +1,14 @@
 """Openings: rising tuples of the places of sites where houses are opened."""
 
-from openhouses.names import is_name
+from openhouses.names import are_rising
 
 
 def is_opening(case, thing):
     """True where the thing is an opening of the case, else False."""
     if not isinstance(thing, tuple) or not 1 <= len(thing) <= most_houses(case):
         return False
-    # Whatever things may stand in it: only texts are safely sorted and looked up.
-    if not all([is_name(place) for place in thing]):
-        return False
     sites = dict(case[1])
-    return list(thing) == sorted(set(thing)) and all([place in sites for place in thing])
+    return are_rising(thing) and all([place in sites for place in thing])
 
 
 def openings(case):

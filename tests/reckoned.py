@@ -243,3 +243,71 @@ class Reckoned:
 def rows_from(numbers):
     """The table of these numbers."""
     return [(first, numbers[first]) for first in sorted(numbers)]
+
+
+def reckoned_near(table, far, place, house):
+    return far is None or table[place, house] <= far
+
+
+def reckoned_is_share(case, table, rooms, far, rows):
+    """Whether the rows, of the right form, are a share: each condition by itself."""
+    houses = [house for house, room in rooms]
+    folk = [place for place, many in case[2]]
+    pairs = [(place, house) for place, house, many in rows]
+    return (
+        rows == sorted(rows) and len(set(pairs)) == len(pairs)
+        and all([place in folk and house in houses and many >= 1 for place, house, many in rows])
+        and all([reckoned_near(table, far, place, house) for place, house in pairs])
+        and all([sum([many for at, house, many in rows if at == place]) == all_there for place, all_there in case[2]])
+        and all([sum([many for place, at, many in rows if at == house]) <= room for house, room in rooms]))
+
+
+def reckoned_lacks(case, table, rooms, far):
+    """All lacks, by looking at each set of the folk's places."""
+    found = []
+    for many in range(1, len(case[2]) + 1):
+        for chosen in itertools.combinations(case[2], many):
+            room = sum([room for house, room in rooms
+                        if any([reckoned_near(table, far, place, house) for place, number in chosen])])
+            if sum([number for place, number in chosen]) > room:
+                found.append([place for place, number in chosen])
+    return found
+
+
+def reckoned_shares(case, table, rooms, far):
+    """All shares, by each way to spread each place's folk over the houses."""
+    houses = [house for house, room in rooms]
+
+    def spread(many, left):
+        if left == 1:
+            return [(many,)]
+        return [(first,) + rest for first in range(many + 1) for rest in spread(many - first, left - 1)]
+
+    found = []
+    for chosen in itertools.product(*[spread(many, len(houses)) for place, many in case[2]]):
+        rows = [(place, house, number) for (place, many), numbers in zip(case[2], chosen)
+                for house, number in zip(houses, numbers) if number]
+        if reckoned_is_share(case, table, rooms, far, rows):
+            found.append(rows)
+    return found
+
+
+def share_cost(table, share):
+    return sum([many * table[place, house] for place, house, many in share])
+
+
+def chance_rooms(chance, case, opening):
+    """Rooms of the opening: all too few, just enough, a little more, or plenty; some of them 0."""
+    total = sum([many for place, many in case[2]])
+    cuts = [0] + sorted([chance.randint(0, total) for house in opening[1:]]) + [total]
+    parts = [behind - ahead for ahead, behind in zip(cuts, cuts[1:])]
+    rooms = chance.choice((
+        parts,
+        [part + chance.randint(0, 1) for part in parts],
+        [max(part - chance.randint(0, 1), 0) for part in parts],
+        [chance.randint(0, total) for house in opening],
+        [chance.choice((0, total // 2, total)) for house in opening],
+        [total] * len(opening),
+        [total // len(opening) + 1] * len(opening),
+    ))
+    return tuple(zip(opening, rooms))
