@@ -22,6 +22,11 @@ BUILTINS = (
 ).split()
 NEVER = "register mro elements open input version_info with_traceback add_note format format_map".split()
 AT_ONCE = "zip enumerate reversed range items keys values".split()
+CALLED = (
+    "append clear copy count endswith extend find get index insert isalnum isalpha isdigit islower isspace isupper items "
+    "join keys ljust lower lstrip partition pop remove replace reverse rfind rjust rpartition rsplit rstrip setdefault "
+    "split splitlines startswith strip update upper values zfill bit_length"
+).split()
 METHODS = ["__init__", "__eq__", "__repr__", "__str__", "__len__"]
 BARRED = (
     ast.With, ast.AsyncWith, ast.Match, ast.Global, ast.Nonlocal, ast.Yield, ast.YieldFrom, ast.AsyncFunctionDef,
@@ -152,6 +157,13 @@ class Language(unittest.TestCase):
             if isinstance(value, ast.Call):
                 called = value.func.id if isinstance(value.func, ast.Name) else value.func.attr
                 self.assertNotIn(called, AT_ONCE, where)
+
+    def test_methods_that_are_called(self):
+        own = [part.name for where, node in nodes() if isinstance(node, ast.ClassDef) for part in node.body
+               if isinstance(part, ast.FunctionDef)]
+        for where, node in nodes():
+            if isinstance(node, ast.Call) and isinstance(node.func, ast.Attribute):
+                self.assertIn(node.func.attr, own + CALLED, where)
 
     def test_no_name_is_a_method_here_and_an_attribute_there(self):
         methods, attributes = [], []
